@@ -1,0 +1,1 @@
+"""Pageshares: exact shares of pages of several kinds under random comings."""
