@@ -3,7 +3,8 @@
 import unittest
 
 from pageshares import errors
-from tests.common import ATTRIBUTES, DIGITS_40
+from pageshares.amounts import multiplied
+from tests.common import ATTRIBUTES, DIGITS_40, no_integers
 
 VALUES = {
     "InvalidFraction": ("one",),
@@ -65,10 +66,30 @@ class TestErrors(unittest.TestCase):
                 self.assertNotEqual(str(caught.exception), "")
 
     def test_long_integers_as_attributes(self):
-        """[1.1] The attribute is the argument, however long it is."""
-        for long in (DIGITS_40, 10 ** 4000 - 1):
-            self.assertEqual(errors.LimitExceeded(long).limit, long)
-            self.assertEqual(errors.InvalidStanding(-long).at, -long)
+        """[0.4] [1.1] The attributes are the arguments, however long they are: also those that only the program makes."""
+        great = multiplied(10 ** 3999, 10 ** 3999)[0]
+        for long in (DIGITS_40, 10 ** 4000 - 1, great, great * great):
+            for name, attributes in ATTRIBUTES.items():
+                for value in (long, -long, (long, -long), ((0, long), "x"), [long], {long: [-long]}):
+                    with self.subTest(name):
+                        error = getattr(errors, name)(*[value] * len(attributes))
+                        self.assertTrue(all(getattr(error, key) is value for key in attributes))
+                        self.assertNotEqual(str(error), "")
+
+    def test_any_values_as_attributes(self):
+        """[0.9] [1.1] An argument may be any value."""
+        for name, attributes in ATTRIBUTES.items():
+            for value in no_integers() + [(), (None, 1), ("kind", (2, [3])), 10 ** 60, 10 ** 61]:
+                with self.subTest(name, value=repr(value)[:60]):
+                    error = getattr(errors, name)(*[value] * len(attributes))
+                    self.assertTrue(all(getattr(error, key) is value for key in attributes))
+
+    def test_messages_tell_the_arguments(self):
+        """What is short stands in the message."""
+        self.assertIn("balance", str(errors.InvalidBook("balance", 4)))
+        self.assertIn("4", str(errors.InvalidBook("balance", 4)))
+        self.assertIn("(0, 3)", str(errors.NoLimit((0, 3))))
+        self.assertIn("-12", str(errors.InvalidStanding(-12)))
 
 
 if __name__ == "__main__":
