@@ -1,6 +1,6 @@
 """Checks of arguments that several modules share."""
 
-from pageshares.errors import InvalidStanding
+from pageshares.errors import InvalidBound, InvalidStanding
 
 SHORT_LIMIT = 1000000
 
@@ -29,6 +29,12 @@ def is_pair(value):
 def is_kind(book, value):
     """Whether the value is the number of a kind of the book."""
     return is_integer_within(value, 0, len(book) - 1)
+
+
+def check_comings(n, most):
+    """Raise InvalidBound if n is not an integer from 0 to the greatest one."""
+    if not is_integer_within(n, 0, most):
+        raise InvalidBound("n")
 
 
 def checked_standing(book, counts):

@@ -66,7 +66,8 @@ class TestErrors(unittest.TestCase):
                 self.assertNotEqual(str(caught.exception), "")
 
     def test_long_integers_as_attributes(self):
-        """[0.4] [1.1] The attributes are the arguments, however long they are: also those that only the program makes."""
+        """[0.4] [1.1] The attributes are the arguments, however long they are."""
+        # An integer of more than 4,000 digits is one that the program returned.
         great = multiplied(10 ** 3999, 10 ** 3999)[0]
         for long in (DIGITS_40, 10 ** 4000 - 1, great, great * great):
             for name, attributes in ATTRIBUTES.items():

@@ -44,10 +44,11 @@ class TestExamples(unittest.TestCase):
                 self.assertEqual(outcome(statements, expression), shown(expected))
 
     def test_none_is_missing(self):
-        """There are seven examples, two of which raise an error."""
+        """There are 16 examples, four of which raise an error."""
         found = examples(TEXT)
         wrong = [shown(line) for _, _, line in found if line.startswith("raises ")]
-        self.assertEqual([len(found), wrong], [7, [("InvalidBook", "balance", 1), ("InvalidRow", 1)]])
+        expected = [("InvalidBook", "balance", 1), ("InvalidRow", 1), ("NoLimit", (0, 1)), ("NotPlain", 1)]
+        self.assertEqual([len(found), wrong], [16, expected])
 
 
 if __name__ == "__main__":

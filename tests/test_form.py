@@ -121,6 +121,14 @@ class TestImports(unittest.TestCase):
                 self.assertTrue({alias.name for alias in node.names} <= defined, place)
 
 
+    def test_each_is_used(self):
+        """No import is left over."""
+        for name, _, tree in trees():
+            imported = {alias.name for node in tree.body if isinstance(node, ast.ImportFrom) for alias in node.names}
+            used = {node.id for node in ast.walk(tree) if isinstance(node, ast.Name)}
+            self.assertEqual(imported - used, set(), name)
+
+
 class TestStatements(unittest.TestCase):
     def test_module_level(self):
         """[L3] A docstring, imports, functions, classes and plain values."""
@@ -186,7 +194,7 @@ class TestNames(unittest.TestCase):
             yields = any(isinstance(one, (ast.Yield, ast.YieldFrom)) for one in ast.walk(node))
             (generators if yields else others).append(node.name)
         variables = [name for _, node in nodes((ast.Name, ast.arg)) for name in bound_names(node)]
-        self.assertIn("row", generators)
+        self.assertTrue({"row", "means"} <= set(generators))
         self.assertFalse(set(generators) & set(others + variables))
 
     def test_methods_of_builtin_values(self):

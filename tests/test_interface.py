@@ -16,6 +16,22 @@ FUNCTIONS = {
         "gaps": ["book", "counts"], "come": ["book", "counts", "kind", "number"], "chances": ["book", "counts"],
         "row": ["book", "counts", "picks"],
     },
+    "means": {
+        "mean": ["book", "counts", "n"], "means": ["book", "counts", "n"], "value": ["book", "prices", "amounts"],
+    },
+    "squares": {
+        "squares": ["book", "counts", "n"], "spread": ["book", "counts", "prices", "n"], "settled_spreads": ["book"],
+        "spread_limit": ["book", "prices"],
+    },
+    "limits": {
+        "shares": ["book", "counts", "n"], "ends": ["book", "counts"], "has_limit": ["book"], "limit": ["book"],
+        "is_limit": ["book", "value"], "groups": ["book"], "reached": ["book", "kind"], "finals": ["book"],
+        "rest": ["book", "counts", "n"],
+    },
+    "plain": {
+        "roots": ["book"], "is_plain": ["book"], "part": ["book", "root"], "factor": ["root", "start", "n"],
+        "far_mean": ["book", "counts", "n"], "still": ["book", "counts"], "leading": ["book", "counts"],
+    },
 }
 METHODS = {
     "__init__": ["self", "weights", "rules"], "weights": ["self"], "is_sure": ["self"],
@@ -43,9 +59,13 @@ class TestInterface(unittest.TestCase):
                     self.assertIn(name, defined)
                     self.assertEqual(parameters(getattr(module, name)), names)
 
-    def test_row_is_a_generator(self):
-        """[4.5] row yields."""
-        self.assertTrue(inspect.isgeneratorfunction(import_module("pageshares.coming").row))
+    def test_generators(self):
+        """[4.5] [5.3] row and means yield, the other functions return."""
+        found = []
+        for file, functions in FUNCTIONS.items():
+            module = import_module("pageshares." + file)
+            found.extend(name for name in functions if inspect.isgeneratorfunction(getattr(module, name)))
+        self.assertEqual(found, ["row", "means"])
 
     def test_book(self):
         """Each method that is listed stands in the class itself."""
