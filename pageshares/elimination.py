@@ -12,7 +12,7 @@ def rank(rows):
         if places:
             head = left[places[0]]
             left = [_cleared(line, head, column) for place, line in enumerate(left) if place != places[0]]
-            found += 1
+            found = found + 1
     return found
 
 

@@ -1,14 +1,15 @@
 """Squares: the means of products of two numbers of pages, and the spreads of values."""
 
 from pageshares.amounts import added, multiplied
+from pageshares.changes import all_changes, chance_scale, whole_chances
 from pageshares.checks import check_comings, checked_short_standing
 from pageshares.coming import gaps
 from pageshares.limits import limit
 from pageshares.means import stepped
 from pageshares.plain import parts
 from pageshares.vectors import (
-    applied, check_prices, common_denominator, exchanged, inner, matrix_product, over, paired, quotient, times,
-    whole_product, whole_vector, wholes,
+    applied, check_prices, exchanged, inner, matrix_product, over, paired, quotient, times, whole_product,
+    whole_vector, wholes,
 )
 
 MOST_COMINGS = 60
@@ -56,7 +57,7 @@ def spread_limit(book, prices):
 
 def _whole_squares(book, standing, n):
     """Return the integers of the squares and of the means after n comings, and their common denominator."""
-    scale = _scale(book)
+    scale = chance_scale(book)
     steps = [wholes(line, scale) for line in book.matrix()]
     jumps = _jumps(book, scale)
     weights = book.weights()
@@ -80,27 +81,15 @@ def _stepped_squares(rows, steps, amount, jumped):
     return [[amount * rows[j][k] + grown[j][k] + grown[k][j] + jumped[j][k] for k in kinds] for j in kinds]
 
 
-def _scale(book):
-    """Return a common denominator of all chances of the book."""
-    return common_denominator([chance for kind in range(len(book)) for chance, _ in book[kind]])
-
-
 def _jumps(book, scale):
     """Return the matrices D(i) of all kinds i, multiplied by the scale."""
-    return [_jump(book, kind, scale) for kind in range(len(book))]
+    return [_jump(amounts, changes) for amounts, changes in zip(whole_chances(book, scale), all_changes(book))]
 
 
-def _jump(book, kind, scale):
-    lottery = book[kind]
-    amounts = wholes([chance for chance, _ in lottery], scale)
-    changes = [_change(outcome, kind) for _, outcome in lottery]
+def _jump(amounts, changes):
     entries = list(zip(amounts, changes))
-    kinds = range(len(book))
+    kinds = range(len(changes[0]))
     return [[sum([amount * change[j] * change[k] for amount, change in entries]) for k in kinds] for j in kinds]
-
-
-def _change(outcome, kind):
-    return [pages - 1 if place == kind else pages for place, pages in enumerate(outcome)]
 
 
 def _summed_jumps(jumps, amounts):
@@ -111,7 +100,7 @@ def _summed_jumps(jumps, amounts):
 
 def _source(book, center):
     """Return the matrix C of a book with this limit."""
-    scale = _scale(book)
+    scale = chance_scale(book)
     numbers, below = whole_vector(center)
     met = [weight * number for weight, number in zip(book.weights(), numbers)]
     jumped = _summed_jumps(_jumps(book, scale), met)

@@ -5,7 +5,7 @@ The longer computations go on in integers over one denominator, so that only wha
 
 from math import lcm
 
-from pageshares.amounts import fraction, is_fraction
+from pageshares.amounts import fraction, is_fraction, is_less
 from pageshares.checks import is_list_of
 from pageshares.errors import InvalidBound
 
@@ -13,6 +13,11 @@ from pageshares.errors import InvalidBound
 def is_vector(book, value):
     """Whether the value is a list of fractions, one for each kind of the book."""
     return is_list_of(value, len(book)) and all([is_fraction(entry) for entry in value])
+
+
+def is_positive_vector(book, value):
+    """Whether the value is a list of fractions above 0, one for each kind of the book."""
+    return is_vector(book, value) and all([is_less(0, entry) for entry in value])
 
 
 def check_prices(book, prices):

@@ -1,5 +1,7 @@
 """What several tests share: books to try, wrong values, and a way to see which error a call raises."""
 
+from itertools import product
+
 from pageshares.books import Book
 from pageshares.errors import ShareError
 
@@ -29,6 +31,25 @@ def raised(call, *args, **named):
         name = error.__class__.__name__
         return (name,) + tuple(getattr(error, attribute) for attribute in ATTRIBUTES[name])
     return ("returned", result)
+
+
+def check_sequence(test, call, good, wrongs):
+    """Of several wrong arguments the first one of the sequence is told.
+
+    `good` has right arguments by name; `wrongs` are tuples of a name, a wrong value and the error, in the sequence in
+    which the errors have to come. Each one is tried with all selections of the later ones.
+    """
+    for place, (name, worth, error) in enumerate(wrongs):
+        later = wrongs[place + 1:]
+        for chosen in product((False, True), repeat=len(later)):
+            named = dict(good)
+            # The earlier ones of the same name are tried last, so that they stay.
+            for (other, value, _), is_chosen in reversed(list(zip(later, chosen))):
+                if is_chosen:
+                    named[other] = value
+            named[name] = worth
+            with test.subTest(name, chosen=chosen):
+                test.assertEqual(raised(call, **named), error)
 
 
 def twin():

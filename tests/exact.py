@@ -140,3 +140,22 @@ def null_vectors(rows):
 def shifted(rows, amount):
     """The rows with the amount subtracted from each entry of the diagonal."""
     return [[entry - amount * (i == j) for i, entry in enumerate(line)] for j, line in enumerate(rows)]
+
+
+def moves_of(book):
+    """Tuples of a kind, a number, a chance and a change, for each outcome of the book."""
+    found = []
+    for kind in range(len(book)):
+        for number, (chance, outcome) in enumerate(book[kind]):
+            found.append((kind, number, exact(chance), tuple(a - (k == kind) for k, a in enumerate(outcome))))
+    return found
+
+
+def possible_after(book, counts, n):
+    """The list of the sets of the standings that are possible after 0, 1 and so on up to n comings."""
+    moves = moves_of(book)
+    found = [{tuple(counts)}]
+    for _ in range(n):
+        found.append({tuple(map(sum, zip(standing, change)))
+                      for standing in found[-1] for kind, _, _, change in moves if standing[kind]})
+    return found

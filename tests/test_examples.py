@@ -44,11 +44,14 @@ class TestExamples(unittest.TestCase):
                 self.assertEqual(outcome(statements, expression), shown(expected))
 
     def test_none_is_missing(self):
-        """There are 16 examples, four of which raise an error."""
+        """There are 34 examples, seven of which raise an error."""
         found = examples(TEXT)
         wrong = [shown(line) for _, _, line in found if line.startswith("raises ")]
-        expected = [("InvalidBook", "balance", 1), ("InvalidRow", 1), ("NoLimit", (0, 1)), ("NotPlain", 1)]
-        self.assertEqual([len(found), wrong], [16, expected])
+        expected = [
+            ("InvalidBook", "balance", 1), ("InvalidRow", 1), ("NoLimit", (0, 1)), ("NotPlain", 1),
+            ("InvalidHold", "column"), ("InvalidText", 1, 4), ("InvalidText", 1, 2),
+        ]
+        self.assertEqual([len(found), wrong], [34, expected])
 
 
 if __name__ == "__main__":

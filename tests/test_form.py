@@ -6,6 +6,8 @@ import unittest
 import warnings
 from pathlib import Path
 
+from pageshares import errors
+
 PACKAGE = Path(__file__).resolve().parent.parent / "pageshares"
 FILES = sorted(path for path in PACKAGE.rglob("*.py"))
 MODULES = {"pageshares." + path.stem for path in FILES}
@@ -43,8 +45,11 @@ DUNDERS = set(
 METHODS = set(
     "append clear copy count endswith extend find get index insert isalnum isalpha isdigit islower isspace isupper "
     "items join keys ljust lower lstrip partition pop remove replace reverse rfind rjust rpartition rsplit rstrip "
-    "setdefault split splitlines startswith strip update upper values zfill bit_length".split()
+    "setdefault split splitlines startswith strip update upper values zfill bit_length "
+    "title capitalize swapcase casefold center expandtabs removeprefix removesuffix rindex isascii isdecimal isnumeric "
+    "istitle isidentifier isprintable".split()
 )
+BUILTIN_VALUES = (str, int, bool, list, tuple, dict, set, bytes)
 
 
 def trees():
@@ -150,15 +155,50 @@ class TestStatements(unittest.TestCase):
             if isinstance(node.value, str):
                 self.assertNotIn("%", node.value, place)
 
-    def test_no_annotations_and_decorators(self):
-        """[L4] [L21] Decorators stand over methods only; annotations are not used here."""
+    def test_no_annotations(self):
+        """[L21] Annotations are not used here."""
         for place, node in nodes(ast.FunctionDef):
-            self.assertEqual([node.decorator_list, node.returns], [[], None], place)
+            self.assertIs(node.returns, None, place)
+        self.assertEqual([place for place, _ in nodes(ast.AnnAssign)], [])
+        self.assertEqual([place for place, node in nodes(ast.arg) if node.annotation is not None], [])
+
+    def test_decorators(self):
+        """[L4] [L5] Only properties and their setters, in classes."""
+        properties = {node.name for _, node in nodes(ast.FunctionDef) if node.decorator_list}
+        self.assertEqual(properties, {"prices"})
+        found = [ast.unparse(one) for _, node in nodes(ast.FunctionDef) for one in node.decorator_list]
+        self.assertEqual(found, ["property", "prices.setter"])
 
     def test_handlers_name_own_errors(self):
         """[L19] Only own errors are caught here."""
         for place, node in nodes(ast.ExceptHandler):
-            self.assertEqual(node.type.id, "ShareError", place)
+            self.assertIn(node.type.id, vars(errors), place)
+
+    def test_finally(self):
+        """[L6] A finally assigns names to attributes, and nothing else."""
+        for place, node in nodes(ast.Try):
+            for line in node.finalbody:
+                self.assertIsInstance(line, ast.Assign, place)
+                self.assertIsInstance(line.value, ast.Name, place)
+                self.assertIsInstance(line.targets[0], ast.Attribute, place)
+
+    def test_no_assignment_with_a_sign(self):
+        """[L5] A class has an in-place sign, so that `+=` and its kin are left out."""
+        self.assertEqual([place for place, _ in nodes(ast.AugAssign)], [])
+
+    def test_keyword_arguments_of_builtins(self):
+        """[L22] Builtins take the keywords that are listed, and no sets are made."""
+        for place, node in nodes(ast.Call):
+            if isinstance(node.func, ast.Name) and node.func.id in vars(builtins) and node.keywords:
+                self.assertLessEqual({one.arg for one in node.keywords}, {"default", "key", "reverse"}, place)
+        self.assertEqual([place for place, _ in nodes((ast.Set, ast.SetComp))], [])
+
+    def test_powers(self):
+        """[L27] An exponent is a literal from 0 to 64."""
+        for place, node in nodes(ast.BinOp):
+            if isinstance(node.op, ast.Pow):
+                self.assertIsInstance(node.right, ast.Constant, place)
+                self.assertLessEqual(node.right.value, 64, place)
 
 
 class TestNames(unittest.TestCase):
@@ -203,6 +243,20 @@ class TestNames(unittest.TestCase):
         for place, node in nodes(ast.Call):
             if isinstance(node.func, ast.Attribute):
                 self.assertIn(node.func.attr, own | METHODS, place)
+
+    def test_own_methods_and_attributes(self):
+        """[L18] [L26] No name of a method or an attribute of builtin values; no name is a method and an attribute."""
+        bodies = [node for _, one in nodes(ast.ClassDef) for node in one.body]
+        methods = {node.name for node in bodies if isinstance(node, ast.FunctionDef)}
+        attributes = {node.attr for _, node in nodes(ast.Attribute) if isinstance(node.ctx, ast.Store)}
+        taken = {name for value in BUILTIN_VALUES for name in dir(value)} - DUNDERS
+        self.assertEqual((methods | attributes) & taken, set())
+        self.assertEqual(methods & attributes, set())
+
+    def test_the_name_that_is_not_read(self):
+        """[L12] `_` is assigned only."""
+        for place, node in nodes(ast.Name):
+            self.assertFalse(node.id == "_" and isinstance(node.ctx, ast.Load), place)
 
     def test_barred_words(self):
         """[L17] Words that stand in no code."""
